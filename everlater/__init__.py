@@ -1,0 +1,1 @@
+"""Everlater: a few marks that tell for ever what was written later."""

@@ -1,0 +1,28 @@
+"""The interface: names and arguments as the document lists them."""
+
+import importlib
+import inspect
+import unittest
+
+FUNCTIONS = {
+    "lots": {"is_lot": ["thing"], "is_later": ["lot", "x", "y"], "is_row": ["lot", "thing"], "rows": ["lot", "size"],
+             "above": ["lot", "marks"], "in_order": ["lot", "marks"]},
+    "judging": {"rounds": ["lot", "n"], "book": ["lot", "n"], "serves": ["lot", "n"], "reach": ["lot"],
+                "hope": ["lot", "n", "row"], "lasts": ["lot", "n"]},
+}
+
+
+class Interface(unittest.TestCase):
+    def test_functions_take_the_arguments_told(self):
+        for module, functions in FUNCTIONS.items():
+            found = importlib.import_module("everlater." + module)
+            for name, arguments in functions.items():
+                parameters = inspect.signature(getattr(found, name)).parameters.values()
+                self.assertEqual([parameter.name for parameter in parameters], arguments, name)
+                for parameter in parameters:
+                    self.assertEqual(parameter.kind, parameter.POSITIONAL_OR_KEYWORD)
+                    self.assertIs(parameter.default, parameter.empty)
+
+
+if __name__ == "__main__":
+    unittest.main()
