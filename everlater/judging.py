@@ -79,13 +79,23 @@ def best_hope(table, n, gone, row, high):
     return max([best_hope(table, n, gone, row + (mark,), still_above(table, high, mark)) for mark in high])
 
 
-def hope(lot, n, row):
-    """Tell the hope of a row of at most n - 1 marks, None where it is a part of a row of the book."""
+def judged(lot, n):
+    """Tell the round of each row of n - 1 marks that goes, and the book: what the hopes of many rows are told by."""
     told, staying = sifted(lot, n)
+    return {row: at for at, going in enumerate(told) for row in going}, staying
+
+
+def hope_by(lot, n, judgement, row):
+    """Tell the hope of a row by what judged tells of the lot and n."""
+    gone, staying = judgement
     if any([is_part(row, kept) for kept in staying]):
         return None
-    gone = {one: at for at, going in enumerate(told) for one in going}
     return best_hope(later_table(lot), n, gone, row, above(lot, row))
+
+
+def hope(lot, n, row):
+    """Tell the hope of a row of at most n - 1 marks, None where it is a part of a row of the book."""
+    return hope_by(lot, n, judged(lot, n), row)
 
 
 def lasts(lot, n):

@@ -1,10 +1,45 @@
 """Lots for the tests, and the document's points played through plainly, without the program."""
 
+import collections
+import functools
 import itertools
 import math
 import random
 
 ENDLESS = math.inf
+
+
+# Things of any kind.
+
+def nested(start, wrap, depth):
+    thing = start
+    for step in range(depth):
+        thing = wrap(thing)
+    return thing
+
+
+def things():
+    """Things of any kind, made anew for each use; none of them is a lot, a row or anything else that is told of."""
+    simple = [0, 1, -1, 24, 10 ** 59, True, False, None, "", "0", "01", [], [0], [0, 1], {}, {0: 1}, {"a": ()}]
+    pairs = [(one, other) for one in simple for other in simple if isinstance(other, list) or isinstance(one, str)]
+    wraps = (lambda x: (x,), lambda x: [x], lambda x: {0: x}, lambda x: (0, x), lambda x: (x, ()))
+    deep = [nested(start, wrap, 30) for start in (0, True, (), (0, ())) for wrap in wraps]
+    return simple + pairs + deep
+
+
+def spoiled(row):
+    """The row with lists, truths and other things in the stead of its own; none of these is a row."""
+    yield list(row)
+    yield row + (None,)
+    yield row + (True,)
+    yield row + (-1,)
+    yield row + ([],)
+    yield (row,)
+    for at, mark in enumerate(row):
+        ahead, behind = row[:at], row[at + 1:]
+        for wrong in (mark - 30, mark + 30, None, str(mark), (mark,), [mark], {mark: mark}) + ((mark == 1,) * (mark < 2)):
+            yield ahead + (wrong,) + behind
+        yield ahead + (mark, mark) + behind
 
 
 # Lots.
@@ -73,18 +108,35 @@ def some_lots(many, count, seed, share=0.9):
         yield many, tuple(sorted(pairs))
 
 
-# Point 4, by going through all orders.
+def with_more(lot, more, count, seed, share=0.95):
+    """The lot with so many further marks behind its own, by a fixed seed; about this share of all pairs is there."""
+    chance = random.Random(seed)
+    for number in range(count):
+        pairs = [two if chance.random() < 0.5 else two[::-1] for two in itertools.combinations(range(lot[0] + more), 2)
+                 if two[1] >= lot[0] and chance.random() < share]
+        yield lot[0] + more, tuple(sorted(list(lot[1]) + pairs))
+
+
+# Point 4, by going through all orders. What is told of a lot again and again is kept, to save time.
+
+@functools.cache
+def pairs_of(lot):
+    return frozenset(lot[1])
+
 
 def plain_is_row(lot, row):
-    return all((row[b], row[a]) in lot[1] for b in range(len(row)) for a in range(b))
+    pairs = pairs_of(lot)
+    return all((row[b], row[a]) in pairs for b in range(len(row)) for a in range(b))
 
 
+@functools.cache
 def plain_rows(lot, size):
     return tuple(sorted(row for row in itertools.permutations(range(lot[0]), size) if plain_is_row(lot, row)))
 
 
 def plain_above(lot, marks):
-    return tuple(x for x in range(lot[0]) if all((x, y) in lot[1] for y in marks))
+    pairs = pairs_of(lot)
+    return tuple(x for x in range(lot[0]) if all((x, y) in pairs for y in marks))
 
 
 def plain_in_order(lot, marks):
@@ -102,6 +154,7 @@ def plain_leavings(row, mark):
     return [tuple(x for x in row if x != out) + (mark,) for out in row]
 
 
+@functools.cache
 def plain_rounds(lot, n):
     """The rounds and the book."""
     staying, gone, told = set(plain_rows(lot, n - 1)), set(), []
@@ -115,6 +168,14 @@ def plain_rounds(lot, n):
         gone |= going
 
 
+def plain_book(lot, n):
+    return plain_rounds(lot, n)[1]
+
+
+def plain_reach(lot):
+    return max([n for n in range(1, 6) if plain_book(lot, n)], default=0)
+
+
 # Point 7, by what it says of hopes alone: from endless ones down, until nothing changes.
 
 def hope_once(lot, n, row, known):
@@ -126,6 +187,7 @@ def hope_once(lot, n, row, known):
     return 1 + max(min([known[left] for left in plain_leavings(row, mark)], default=ENDLESS) for mark in high)
 
 
+@functools.cache
 def plain_hopes(lot, n):
     """The hope of each row of at most n - 1 marks."""
     kept = set().union(*[parts(row) for row in plain_rounds(lot, n)[1]])
@@ -136,6 +198,57 @@ def plain_hopes(lot, n):
         changed = new != known
         known = new
     return {row: None if known[row] == ENDLESS else known[row] for row in known}
+
+
+# Point 8, clause by clause.
+
+def plain_is_rows(lot, n, thing):
+    """Whether it is a tuple of rows of n - 1 marks."""
+    if type(thing) is not tuple or any(type(row) is not tuple for row in thing):
+        return False
+    if any(type(mark) is not int for row in thing for mark in row):
+        return False
+    return set(thing) <= set(plain_rows(lot, n - 1))
+
+
+def plain_is_paper(lot, n, thing):
+    if type(thing) is not tuple or len(thing) != 2 or not plain_is_rows(lot, n, thing[1]):
+        return False
+    word, told = thing
+    if word == "serves":
+        return told != () and list(told) == sorted(set(told)) and all(
+            any(set(plain_leavings(row, mark)) <= set(told) for mark in plain_above(lot, row)) for row in told)
+    if word == "fails":
+        place = {row: at for at, row in enumerate(told)}
+        return sorted(told) == list(plain_rows(lot, n - 1)) and all(
+            any(place[left] < place[row] for left in plain_leavings(row, mark))
+            for row in told for mark in plain_above(lot, row))
+    return False
+
+
+# Points 9 and 10.
+
+def plain_is_kept(lot, n, row):
+    """Of a row of the lot."""
+    kept = plain_book(lot, n)
+    if any(row in itertools.combinations(one, len(row)) for one in kept):
+        return True
+    return len(row) == n and all(left in kept for left in itertools.combinations(row, n - 1))
+
+
+def plain_give(lot, n, row):
+    return min(mark for mark in plain_above(lot, row) if plain_is_kept(lot, n, row + (mark,)))
+
+
+def plain_hold(lot, n, row):
+    known = {one: ENDLESS if told is None else told for one, told in plain_hopes(lot, n).items()}
+    left = {}
+    for mark in plain_above(lot, row):
+        if len(row) < n - 1:
+            left[mark] = known[row + (mark,)]
+        else:
+            left[mark] = min([known[one] for one in plain_leavings(row, mark)], default=ENDLESS)
+    return min([mark for mark in left if left[mark] == max(left.values())], default=None)
 
 
 # Point 5, played through: who gives against who chooses the slots.
@@ -188,3 +301,26 @@ def writings_left(lot, n, moves_too):
                 left[held] = min(found)
                 changed = True
     return left
+
+
+def soonest_failing(lot, n, giver):
+    """Within how many writings this giver can be made to fail, whatever is written, taken, dropped; ENDLESS if never.
+
+    The giver tells a mark of the row of what the other slots hold, or None.
+    """
+    fewest, waiting = {(): 0}, collections.deque([()])
+    while waiting:
+        held = waiting.popleft()
+        for then in taken_or_dropped(held, n):
+            if fewest.get(then, ENDLESS) > fewest[held]:
+                fewest[then] = fewest[held]
+                waiting.appendleft(then)
+        for others in slots_free_to_write(held, n):
+            mark = giver(plain_in_order(lot, others))
+            if mark not in plain_above(lot, others):
+                return fewest[held] + 1
+            then = tuple(sorted(others + (mark,)))
+            if fewest.get(then, ENDLESS) > fewest[held] + 1:
+                fewest[then] = fewest[held] + 1
+                waiting.append(then)
+    return ENDLESS

@@ -9,6 +9,11 @@ FUNCTIONS = {
              "above": ["lot", "marks"], "in_order": ["lot", "marks"]},
     "judging": {"rounds": ["lot", "n"], "book": ["lot", "n"], "serves": ["lot", "n"], "reach": ["lot"],
                 "hope": ["lot", "n", "row"], "lasts": ["lot", "n"]},
+    "papers": {"paper": ["lot", "n"], "shows_paper": ["lot", "n", "thing"]},
+    "giving": {"is_kept": ["lot", "n", "thing"], "give": ["lot", "n", "row"], "hold": ["lot", "n", "row"]},
+    "attacking": {"attack": ["lot", "held"]},
+    "making": {"ring": [], "line": ["many"], "squares": ["p"], "turned": ["lot"], "part": ["lot", "marks"],
+               "beside": ["lot", "other"], "within": ["lot", "other"]},
 }
 
 

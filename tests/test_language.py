@@ -17,7 +17,22 @@ BARRED_WORDS = re.compile(r"\b(type|typing|typing_extensions|enum|Enum|IntEnum|S
                           r"|ABCMeta|namedtuple|NamedTuple|TypedDict|TYPE_CHECKING|abstractmethod)\b"
                           r"|dataclass|overload|contextmanager")
 BARRED_NAMES = set("register mro elements open input version_info with_traceback add_note".split())
+METHODS = set("""append clear copy count endswith extend find get index insert isalnum isalpha isdigit islower isspace isupper
+    items join keys ljust lower lstrip partition pop remove replace reverse rfind rjust rpartition rsplit rstrip setdefault
+    split splitlines startswith strip update upper values zfill bit_length add discard""".split())
 DOUBLE = {"__init__", "__eq__", "__len__", "__repr__", "__str__"}
+
+
+def defined(tree):
+    """The names that a file defines at its top."""
+    found = {node.name for node in tree.body if isinstance(node, (ast.FunctionDef, ast.ClassDef))}
+    return found | {target.id for node in tree.body if isinstance(node, ast.Assign) for target in node.targets}
+
+
+def imported_from(tree):
+    """The names that a file imports, by modules of the package."""
+    return {node.module.removeprefix("everlater."): [one.name for one in node.names]
+            for node in tree.body if isinstance(node, ast.ImportFrom)}
 
 
 def names_bound(tree):
@@ -81,6 +96,44 @@ class Language(unittest.TestCase):
                     self.assertIn(node, tree.body)
                     self.assertEqual(node.level, 0)
                     self.assertIn(node.module.removeprefix("everlater."), MODULES)
+
+    def test_imports_name_the_file_that_defines_and_never_lead_back(self):
+        trees = {name.removesuffix(".py"): tree for name, text, tree in self.each()}
+        ahead = {name: imported_from(tree) for name, tree in trees.items()}
+        for name in trees:
+            for module, names in ahead[name].items():
+                self.assertLessEqual(set(names), defined(trees[module]), name)
+        while ahead:
+            free = [name for name in ahead if not set(ahead[name]) & set(ahead)]
+            self.assertTrue(free, f"these import from each other: {sorted(ahead)}")
+            for name in free:
+                del ahead[name]
+
+    def test_methods(self):
+        own = {node.name for name, text, tree in self.each() for kind in ast.walk(tree) if isinstance(kind, ast.ClassDef)
+               for node in kind.body if isinstance(node, ast.FunctionDef)}
+        for name, text, tree in self.each():
+            for node in ast.walk(tree):
+                if isinstance(node, ast.Call) and isinstance(node.func, ast.Attribute):
+                    self.assertIn(node.func.attr, METHODS | own, name)
+
+    def test_sets_stand_where_they_are_only_looked_at(self):
+        for name, text, tree in self.each():
+            parents = {child: node for node in ast.walk(tree) for child in ast.iter_child_nodes(node)}
+            for node in ast.walk(tree):
+                called = node.func.id if isinstance(node, ast.Call) and isinstance(node.func, ast.Name) else None
+                if called in ("set", "frozenset") or isinstance(node, (ast.Set, ast.SetComp)):
+                    around = parents[node]
+                    looked_at = isinstance(around, ast.Compare) or getattr(getattr(around, "func", None), "id", None) in (
+                        "sorted", "len")
+                    self.assertTrue(looked_at, (name, node.lineno))
+
+    def test_powers_and_generators(self):
+        for name, text, tree in self.each():
+            for node in ast.walk(tree):
+                self.assertNotIsInstance(node, ast.GeneratorExp, name)
+                if isinstance(node, ast.BinOp) and isinstance(node.op, ast.Pow):
+                    self.assertIsInstance(node.right, ast.Constant, name)
 
     def test_builtins(self):
         for name, text, tree in self.each():

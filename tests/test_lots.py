@@ -6,24 +6,8 @@ import random
 import unittest
 
 from everlater.lots import above, in_order, is_later, is_lot, is_row, rows
-from tests.plain import (RING, RING_TURNED, all_lots, apart, beside, line, no_pairs, plain_above, plain_in_order,
-                         plain_is_row, plain_rows, some_lots, squares, within)
-
-
-def nested(start, wrap, depth):
-    thing = start
-    for step in range(depth):
-        thing = wrap(thing)
-    return thing
-
-
-def things():
-    """Things of any kind, none of which is a lot or a row."""
-    simple = [0, 1, -1, 24, 10 ** 59, True, False, None, "", "0", "01", [], [0], [0, 1], {}, {0: 1}, {"a": ()}]
-    pairs = [(one, other) for one in simple for other in simple if isinstance(other, list) or isinstance(one, str)]
-    wraps = (lambda x: (x,), lambda x: [x], lambda x: {0: x}, lambda x: (0, x), lambda x: (x, ()))
-    deep = [nested(start, wrap, 30) for start in (0, True, (), (0, ())) for wrap in wraps]
-    return simple + pairs + deep
+from tests.plain import (RING, RING_TURNED, all_lots, apart, beside, line, nested, no_pairs, plain_above,
+                         plain_in_order, plain_is_row, plain_rows, some_lots, squares, things, within)
 
 
 SMALL = [lot for many in range(4) for lot in all_lots(many)]
