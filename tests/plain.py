@@ -172,6 +172,7 @@ def plain_book(lot, n):
     return plain_rounds(lot, n)[1]
 
 
+@functools.cache
 def plain_reach(lot):
     return max([n for n in range(1, 6) if plain_book(lot, n)], default=0)
 
@@ -228,6 +229,7 @@ def plain_is_paper(lot, n, thing):
 
 # Points 9 and 10.
 
+@functools.cache
 def plain_is_kept(lot, n, row):
     """Of a row of the lot."""
     kept = plain_book(lot, n)
@@ -249,6 +251,86 @@ def plain_hold(lot, n, row):
         else:
             left[mark] = min([known[one] for one in plain_leavings(row, mark)], default=ENDLESS)
     return min([mark for mark in left if left[mark] == max(left.values())], default=None)
+
+
+# Point 13.
+
+def plain_is_leading(lot, other, thing):
+    """Of a tuple with a mark of the other for each mark of the lot."""
+    return all((thing[x], thing[y]) in pairs_of(other) for x, y in itertools.product(range(lot[0]), repeat=2)
+               if (x, y) in pairs_of(lot))
+
+
+def plain_spare(lot, n):
+    staying = list(range(lot[0]))
+    for mark in reversed(range(lot[0])):
+        fewer = [one for one in staying if one != mark]
+        if plain_book(part(lot, fewer), n):
+            staying = fewer
+    return tuple(staying)
+
+
+# Points 14 and 15, by their words.
+
+def plain_marks(tower):
+    return list(itertools.product(*[range(lot[0]) for lot in tower]))
+
+
+def plain_later_in(tower, x, y):
+    unlike = [place for place in range(len(tower)) if x[place] != y[place]]
+    return bool(unlike) and (x[unlike[0]], y[unlike[0]]) in pairs_of(tower[unlike[0]])
+
+
+def plain_is_row_in(tower, row):
+    return all(plain_later_in(tower, row[b], row[a]) for b in range(len(row)) for a in range(b))
+
+
+def plain_above_in(tower, marks):
+    return [x for x in plain_marks(tower) if all(plain_later_in(tower, x, y) for y in marks)]
+
+
+def all_rows_in(tower, size):
+    """All rows of at most so many marks."""
+    found, told = [((), plain_marks(tower))], [()]
+    for step in range(size):
+        found = [(row + (mark,), [x for x in high if plain_later_in(tower, x, mark)]) for row, high in found
+                 for mark in high]
+        told += [row for row, high in found]
+    return told
+
+
+def plain_reach_in(tower):
+    return 1 + sum(plain_reach(lot) - 1 for lot in tower)
+
+
+def outer_marks(row):
+    return tuple(dict.fromkeys(mark[0] for mark in row))
+
+
+def rests_of(row, outer):
+    return tuple(mark[1:] for mark in row if mark[0] == outer)
+
+
+def plain_is_kept_in(tower, row):
+    """Of a row of the tower."""
+    first, others = tower[0], tower[1:]
+    if not others:
+        return plain_is_kept(first, plain_reach(first), tuple(mark[0] for mark in row))
+    return plain_is_kept(first, plain_reach(first), outer_marks(row)) and all(
+        plain_is_kept_in(others, rests_of(row, outer)) for outer in outer_marks(row))
+
+
+def plain_give_in(tower, row):
+    """Of a kept row of fewer marks than the reach."""
+    first, others = tower[0], tower[1:]
+    if not others:
+        return (plain_give(first, plain_reach(first), tuple(mark[0] for mark in row)),)
+    if row == ():
+        return (plain_give(first, plain_reach(first), ()),) + plain_give_in(others, ())
+    last = outer_marks(row)[-1]
+    if len(rests_of(row, last)) < plain_reach_in(others):
+        return (last,) + plain_give_in(others, rests_of(row, last))
+    return (plain_give(first, plain_reach(first), outer_marks(row)),) + plain_give_in(others, ())
 
 
 # Point 5, played through: who gives against who chooses the slots.

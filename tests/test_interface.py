@@ -14,6 +14,11 @@ FUNCTIONS = {
     "attacking": {"attack": ["lot", "held"]},
     "making": {"ring": [], "line": ["many"], "squares": ["p"], "turned": ["lot"], "part": ["lot", "marks"],
                "beside": ["lot", "other"], "within": ["lot", "other"]},
+    "leading": {"is_leading": ["lot", "other", "thing"], "ceiling": ["many"]},
+    "sparing": {"spare": ["lot", "n"]},
+    "towers": {"is_tower": ["thing"], "is_mark": ["tower", "thing"], "is_row_in": ["tower", "thing"],
+               "later_in": ["tower", "x", "y"], "order_in": ["tower", "marks"], "many_in": ["tower"], "reach_in": ["tower"]},
+    "towergiving": {"is_kept_in": ["tower", "thing"], "give_in": ["tower", "row"]},
 }
 
 

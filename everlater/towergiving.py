@@ -1,0 +1,79 @@
+"""Who gives marks of a tower and never fails, in as many slots as the tower's reach tells.
+
+A lot is told here as (lot, reach, short): short has the kept rows of fewer marks than the reach.
+"""
+
+from everlater.errors import NotKept
+from everlater.giving import given, is_kept_by, short_kept
+from everlater.judging import reach
+from everlater.towers import is_row_in
+
+
+def judged_lot(lot):
+    """Tell the lot with its reach and the short kept rows for that."""
+    most = reach(lot)
+    return (lot, most, short_kept(lot, most))
+
+
+def judged_lots(tower):
+    """Tell the tower's lots, each with its reach and the short kept rows for that."""
+    # A high tower often has the same lot again and again: each is judged once.
+    known = {lot: judged_lot(lot) for lot in sorted(set(tower))}
+    return [known[lot] for lot in tower]
+
+
+def reach_by(lots):
+    """Tell the reach of the tower of these judged lots; of none it is 1, as of a tower with but one mark."""
+    return 1 + sum([most - 1 for lot, most, short in lots])
+
+
+def blocks(row):
+    """Tell the row's blocks in its order, as a dict: of each outer mark the rests."""
+    found = {}
+    for mark in row:
+        if mark[0] not in found:
+            found[mark[0]] = []
+        found[mark[0]].append(mark[1:])
+    return found
+
+
+def is_kept_on(lots, row):
+    """Tell whether a row of the tower of these judged lots is kept."""
+    lot, most, short = lots[0]
+    found = blocks(row)
+    if not is_kept_by(short, most, tuple(found)):
+        return False
+    # In a tower of one lot nothing is left of a mark without its outer one.
+    return len(lots) == 1 or all([is_kept_on(lots[1:], found[outer]) for outer in found])
+
+
+def is_kept_in(tower, thing):
+    """Tell whether the thing, whatever it is, is a kept row of the tower."""
+    return is_row_in(tower, thing) and is_kept_on(judged_lots(tower), thing)
+
+
+def given_on(lots, row):
+    """Tell the mark to be given behind a kept row that has fewer marks than the reach, lot by lot."""
+    told = ()
+    rests = row
+    for at, (lot, most, short) in enumerate(lots):
+        found = blocks(rests)
+        outer = tuple(found)
+        # In the last lot a block has one mark and the reach of what is left is 1: there is never room.
+        if outer and len(found[outer[-1]]) < reach_by(lots[at + 1:]):
+            told += (outer[-1],)
+            rests = found[outer[-1]]
+        else:
+            told += (given(lot, most, short, outer),)
+            rests = ()
+    return told
+
+
+def give_in(tower, row):
+    """Tell the mark that is given behind a kept row of fewer marks than the tower's reach."""
+    if not is_row_in(tower, row):
+        raise NotKept(row)
+    lots = judged_lots(tower)
+    if len(row) >= reach_by(lots) or not is_kept_on(lots, row):
+        raise NotKept(row)
+    return given_on(lots, row)

@@ -1,0 +1,66 @@
+"""Towers: lots within lots, the outermost first; a mark has a mark of each, and the first unlike ones tell."""
+
+from everlater.judging import reach
+from everlater.lots import is_below, is_later, is_lot
+
+MOST_LOTS = 40
+
+
+def is_tower(thing):
+    """Tell whether the thing, whatever it is, is a tower."""
+    if not isinstance(thing, tuple) or not 1 <= len(thing) <= MOST_LOTS:
+        return False
+    return all([is_lot(lot) and lot[0] > 0 for lot in thing])
+
+
+def is_mark(tower, thing):
+    """Tell whether the thing, whatever it is, is a mark of the tower."""
+    if not isinstance(thing, tuple) or len(thing) != len(tower):
+        return False
+    return all([is_below(lot[0], one) for lot, one in zip(tower, thing)])
+
+
+def later_in(tower, x, y):
+    """Tell whether the mark x is later than the mark y."""
+    for lot, one, other in zip(tower, x, y):
+        if one != other:
+            return is_later(lot, one, other)
+    return False
+
+
+def is_over_in(tower, mark, marks):
+    """Tell whether the mark is later than all of the marks."""
+    return all([later_in(tower, mark, other) for other in marks])
+
+
+def is_row_in(tower, thing):
+    """Tell whether the thing, whatever it is, is a row of the tower."""
+    if not isinstance(thing, tuple):
+        return False
+    for at, mark in enumerate(thing):
+        if not is_mark(tower, mark) or not is_over_in(tower, mark, thing[:at]):
+            return False
+    return True
+
+
+def order_in(tower, marks):
+    """Tell the row that has just these marks, None where there is none."""
+    unlike = sorted(set(marks))
+    # A mark of a row is later than just those ahead of it: how many these are is its place.
+    row = tuple(sorted(unlike, key=lambda mark: len([y for y in unlike if later_in(tower, mark, y)])))
+    return row if is_row_in(tower, row) else None
+
+
+def many_in(tower):
+    """Tell how many marks the tower has."""
+    many = 1
+    for lot in tower:
+        many *= lot[0]
+    return many
+
+
+def reach_in(tower):
+    """Tell the tower's reach: 1, and for each of its lots its reach less 1."""
+    # A high tower often has the same lot again and again: each is judged once.
+    known = {lot: reach(lot) for lot in sorted(set(tower))}
+    return 1 + sum([known[lot] - 1 for lot in tower])
