@@ -6,7 +6,7 @@ A lot is told here as (lot, reach, short): short has the kept rows of fewer mark
 from everlater.errors import NotKept
 from everlater.giving import given, is_kept_by, short_kept
 from everlater.judging import reach
-from everlater.towers import is_row_in
+from everlater.towers import is_row_in, many_in
 
 
 def judged_lot(lot):
@@ -71,7 +71,8 @@ def given_on(lots, row):
 
 def give_in(tower, row):
     """Tell the mark that is given behind a kept row of fewer marks than the tower's reach."""
-    if not is_row_in(tower, row):
+    # Where there are no marks, as no tower has it, there would be none to tell.
+    if not is_row_in(tower, row) or many_in(tower) == 0:
         raise NotKept(row)
     lots = judged_lots(tower)
     if len(row) >= reach_by(lots) or not is_kept_on(lots, row):

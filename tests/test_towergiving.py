@@ -283,7 +283,8 @@ class HandedIn(unittest.TestCase):
             self.assertEqual((repr(tower), thing), (before, [[0], ([1], {"a": [0]})]))
 
     def test_somewhat_beyond_the_limits_nothing_but_not_kept_is_raised(self):
-        for tower in ((RING,) * 42, (no_pairs(26), line(26)), (line(26), RING)):
+        for tower in ((RING,) * 42, (no_pairs(26), line(26)), (line(26), RING), (no_pairs(0), RING), (RING, no_pairs(0)),
+                      (no_pairs(0),)):
             for row in ((), ((0,) * len(tower),)):
                 is_kept_in(tower, row)
                 try:
