@@ -6,7 +6,7 @@ A lot is told here as (lot, reach, short): short has the kept rows of fewer mark
 from everlater.errors import NotKept
 from everlater.giving import given, is_kept_by, short_kept
 from everlater.judging import reach
-from everlater.towers import is_row_in, many_in
+from everlater.towers import blocks, is_row_in, many_in
 
 
 def judged_lot(lot):
@@ -23,49 +23,40 @@ def judged_lots(tower):
 
 
 def reach_by(lots):
-    """Tell the reach of the tower of these judged lots; of none it is 1, as of a tower with but one mark."""
+    """Tell the reach of the tower of these judged lots."""
     return 1 + sum([most - 1 for lot, most, short in lots])
 
 
-def blocks(row):
-    """Tell the row's blocks in its order, as a dict: of each outer mark the rests."""
-    found = {}
-    for mark in row:
-        if mark[0] not in found:
-            found[mark[0]] = []
-        found[mark[0]].append(mark[1:])
-    return found
-
-
-def is_kept_on(lots, row):
-    """Tell whether a row of the tower of these judged lots is kept."""
-    lot, most, short = lots[0]
-    found = blocks(row)
+def is_kept_on(lots, at, row):
+    """Tell whether the marks of a row, alike ahead of this place, have kept rests from there on."""
+    lot, most, short = lots[at]
+    found = blocks(row, at)
     if not is_kept_by(short, most, tuple(found)):
         return False
-    # In a tower of one lot nothing is left of a mark without its outer one.
-    return len(lots) == 1 or all([is_kept_on(lots[1:], found[outer]) for outer in found])
+    return at == len(lots) - 1 or all([is_kept_on(lots, at + 1, found[outer]) for outer in found])
 
 
 def is_kept_in(tower, thing):
     """Tell whether the thing, whatever it is, is a kept row of the tower."""
-    return is_row_in(tower, thing) and is_kept_on(judged_lots(tower), thing)
+    return is_row_in(tower, thing) and is_kept_on(judged_lots(tower), 0, thing)
 
 
 def given_on(lots, row):
     """Tell the mark to be given behind a kept row that has fewer marks than the reach, lot by lot."""
     told = ()
-    rests = row
+    block = row
+    room = reach_by(lots)
     for at, (lot, most, short) in enumerate(lots):
-        found = blocks(rests)
+        found = blocks(block, at)
         outer = tuple(found)
-        # In the last lot a block has one mark and the reach of what is left is 1: there is never room.
-        if outer and len(found[outer[-1]]) < reach_by(lots[at + 1:]):
+        # Now it is the reach of the lots behind; behind the last one it is 1, and a block has a mark: never room.
+        room -= most - 1
+        if outer and len(found[outer[-1]]) < room:
             told += (outer[-1],)
-            rests = found[outer[-1]]
+            block = found[outer[-1]]
         else:
             told += (given(lot, most, short, outer),)
-            rests = ()
+            block = ()
     return told
 
 
@@ -75,6 +66,6 @@ def give_in(tower, row):
     if not is_row_in(tower, row) or many_in(tower) == 0:
         raise NotKept(row)
     lots = judged_lots(tower)
-    if len(row) >= reach_by(lots) or not is_kept_on(lots, row):
+    if len(row) >= reach_by(lots) or not is_kept_on(lots, 0, row):
         raise NotKept(row)
     return given_on(lots, row)

@@ -1,7 +1,7 @@
 """Towers: lots within lots, the outermost first; a mark has a mark of each, and the first unlike ones tell."""
 
 from everlater.judging import reach
-from everlater.lots import is_below, is_later, is_lot
+from everlater.lots import in_order, is_below, is_later, is_lot
 
 MOST_LOTS = 40
 
@@ -43,12 +43,32 @@ def is_row_in(tower, thing):
     return True
 
 
+def blocks(marks, at):
+    """Tell, as a dict, the marks that have the same one at this place, for each such one as they come."""
+    found = {}
+    for mark in marks:
+        if mark[at] not in found:
+            found[mark[at]] = []
+        found[mark[at]].append(mark)
+    return found
+
+
+def ordered(tower, at, marks):
+    """Tell the row of these unlike marks, which are alike ahead of this place; None where there is none."""
+    if len(marks) < 2:
+        return tuple(marks)
+    found = blocks(marks, at)
+    outer = in_order(tower[at], tuple(found))
+    if outer is None:
+        return None
+    # Where the outer marks differ they alone tell, so each block stands together.
+    rows = [ordered(tower, at + 1, found[one]) for one in outer]
+    return None if None in rows else tuple([mark for row in rows for mark in row])
+
+
 def order_in(tower, marks):
     """Tell the row that has just these marks, None where there is none."""
-    unlike = sorted(set(marks))
-    # A mark of a row is later than just those ahead of it: how many these are is its place.
-    row = tuple(sorted(unlike, key=lambda mark: len([y for y in unlike if later_in(tower, mark, y)])))
-    return row if is_row_in(tower, row) else None
+    return ordered(tower, 0, sorted(set(marks)))
 
 
 def many_in(tower):
@@ -59,8 +79,13 @@ def many_in(tower):
     return many
 
 
-def reach_in(tower):
-    """Tell the tower's reach: 1, and for each of its lots its reach less 1."""
+def reaches(tower):
+    """Tell the reach of each of the tower's lots, as a list."""
     # A high tower often has the same lot again and again: each is judged once.
     known = {lot: reach(lot) for lot in sorted(set(tower))}
-    return 1 + sum([known[lot] - 1 for lot in tower])
+    return [known[lot] for lot in tower]
+
+
+def reach_in(tower):
+    """Tell the tower's reach: 1, and for each of its lots its reach less 1."""
+    return 1 + sum([most - 1 for most in reaches(tower)])

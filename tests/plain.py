@@ -5,6 +5,7 @@ import functools
 import itertools
 import math
 import random
+import unittest
 
 ENDLESS = math.inf
 
@@ -406,3 +407,246 @@ def soonest_failing(lot, n, giver):
                 fewest[then] = fewest[held] + 1
                 waiting.append(then)
     return ENDLESS
+
+
+# Point 16.
+
+def plain_lasts_in(tower):
+    product = 1
+    for lot in tower:
+        n = plain_reach(lot) + 1
+        product *= n + plain_hopes(lot, n)[()] - 1
+    return product + 1
+
+
+def drawn_above_in(tower, row, chance):
+    """A mark later than all of the row, by a chance, None where there is none; without going through all marks."""
+    if not tower:
+        return None if row else ()
+    first, others, outer = tower[0], tower[1:], outer_marks(row)
+    found = [(x,) + tuple(chance.randrange(lot[0]) for lot in others) for x in plain_above(first, outer)]
+    if outer and chance.random() < 0.8 or not found:
+        rest = drawn_above_in(others, rests_of(row, outer[-1]), chance) if outer else None
+        if rest is not None:
+            return (outer[-1],) + rest
+    return chance.choice(found) if found else None
+
+
+# Points 17 to 20, by counting. What is refused is told by the refusal's name and its values.
+
+class Refusal(Exception):
+    def __init__(self, name, *values):
+        self.name, self.values = name, values
+
+
+def outcome(ask, *arguments, **named):
+    """What is told, or which refusal with which values; alike for the program and for what is plain."""
+    try:
+        return "told", ask(*arguments, **named)
+    except Refusal as refusal:
+        return refusal.name, refusal.values
+    except ValueError as error:
+        return type(error).__name__, tuple(vars(error).values())
+
+
+class Refusing(unittest.TestCase):
+    def refused(self, kind, value, ask, /, *arguments, **named):
+        """What is asked is refused by this kind, with the very value; () where the kind has none."""
+        with self.assertRaises(kind) as caught:
+            ask(*arguments, **named)
+        self.assertIs(type(caught.exception), kind)
+        for told in vars(caught.exception).values() or [()]:
+            self.assertIs(told, value)
+
+
+def is_plain_number(thing, start, end):
+    return type(thing) is int and start <= thing < end
+
+
+def need_slots(many, *slots):
+    for slot in slots:
+        if not is_plain_number(slot, 0, many):
+            raise Refusal("NoSlot", slot)
+
+
+class PlainSlots:
+    """Slots that hold None or (when, thing); when rises with each writing or giving."""
+
+    def __init__(self, tower, many):
+        self.tower, self.slots, self.clock, self.past = tower, [None] * many, 0, []
+
+    def remember(self):
+        self.past.append(self.state())
+
+    def state(self):
+        return list(self.slots), self.clock
+
+    def set_state(self, state):
+        self.slots, self.clock = list(state[0]), state[1]
+
+    def need_full(self, slot):
+        if self.slots[slot] is None:
+            raise Refusal("Empty", slot)
+
+    def set_slot(self, slot, what):
+        self.remember()
+        self.slots[slot] = what
+
+    def take(self, slot, other):
+        need_slots(len(self.slots), slot, other)
+        self.need_full(other)
+        self.set_slot(slot, self.slots[other])
+
+    def drop(self, slot):
+        need_slots(len(self.slots), slot)
+        self.need_full(slot)
+        self.set_slot(slot, None)
+
+    def back(self):
+        if not self.past:
+            raise Refusal("NoDeed")
+        self.set_state(self.past.pop())
+
+    def held(self):
+        return tuple(None if one is None else one[1] for one in self.slots)
+
+    def order(self):
+        whens = sorted({one[0] for one in self.slots if one is not None})
+        return tuple(tuple(slot for slot, one in enumerate(self.slots) if one is not None and one[0] == when)
+                     for when in whens)
+
+
+class PlainBoard(PlainSlots):
+    def __init__(self, tower, many, held=None):
+        super().__init__(tower, many)
+        if held is not None:
+            marks = {mark for mark in held if mark is not None}
+            row = sorted(marks, key=lambda mark: sum(plain_later_in(tower, mark, other) for other in marks))
+            self.slots = [None if mark is None else (row.index(mark), mark) for mark in held]
+            self.clock = len(row)
+
+    def next_mark(self, slot):
+        need_slots(len(self.slots), slot)
+        others = dict(one for at, one in enumerate(self.slots) if at != slot and one is not None)
+        return plain_give_in(self.tower, tuple(others[when] for when in sorted(others)))
+
+    def write(self, slot):
+        mark = self.next_mark(slot)
+        self.set_slot(slot, (self.clock, mark))
+        self.clock += 1
+        return mark
+
+    def marks(self):
+        return self.held()
+
+    def oldest(self):
+        return self.order()[0][0] if any(self.slots) else None
+
+    def newest(self):
+        return self.order()[-1][0] if any(self.slots) else None
+
+    def its_tower(self):
+        return self.tower
+
+    def __len__(self):
+        return sum(one is not None for one in self.slots)
+
+
+class PlainPost(PlainSlots):
+    """All letters that were given are kept in a list; the number of one there tells when it was given."""
+
+    def __init__(self, tower, line, many):
+        super().__init__(tower, many)
+        self.line, self.all = line, []
+
+    def state(self):
+        return list(self.slots), self.clock, list(self.all)
+
+    def set_state(self, state):
+        self.slots, self.clock, self.all = list(state[0]), state[1], list(state[2])
+
+    def under_way(self):
+        return range(max(0, len(self.all) - self.line), len(self.all))
+
+    def numbers(self):
+        """The numbers of all live letters, rising."""
+        return sorted(set(self.under_way()) | {one[0] for one in self.slots if one is not None})
+
+    def give(self):
+        self.remember()
+        if self.all and self.all[-1][1] < self.line - 1:
+            letter = self.all[-1][0], self.all[-1][1] + 1
+        else:
+            letter = plain_give_in(self.tower, tuple(dict.fromkeys(self.all[number][0] for number in self.numbers()))), 0
+        self.all.append(letter)
+        return letter
+
+    def keep(self, slot, number):
+        need_slots(len(self.slots), slot)
+        if not is_plain_number(number, 0, len(self.under_way())):
+            raise Refusal("NoLetter", number)
+        self.set_slot(slot, (self.under_way()[number], self.all[self.under_way()[number]]))
+
+    def letters(self):
+        return tuple(self.all[number] for number in self.under_way())
+
+    def kept(self):
+        return self.held()
+
+    def live(self):
+        return tuple(self.all[number] for number in self.numbers())
+
+    def __len__(self):
+        return len(self.past)
+
+
+class PlainCache:
+    """Each key that has a row has (value, when it was touched, its mark)."""
+
+    def __init__(self, tower, many):
+        self.tower, self.many, self.rows, self.clock, self.past = tower, many, {}, 0, []
+
+    def need_key(self, key):
+        if type(key) is not str or not 1 <= len(key) <= 8 or set(key) - set("abcdefghijklmnopqrstuvwxyz"):
+            raise Refusal("NoKey", key)
+
+    def by_touch(self):
+        return tuple(sorted(self.rows, key=lambda key: self.rows[key][1]))
+
+    def marks(self):
+        return tuple(self.rows[key][2] for key in self.by_touch())
+
+    def touch(self, key, value):
+        mark = plain_give_in(self.tower, tuple(self.rows[other][2] for other in self.by_touch() if other != key))
+        self.rows[key] = value, self.clock, mark
+        self.clock += 1
+
+    def put(self, key, value):
+        self.need_key(key)
+        if type(value) is not int:
+            raise Refusal("NoValue", value)
+        self.past.append(dict(self.rows))
+        gone = self.by_touch()[0] if key not in self.rows and len(self.rows) == self.many else None
+        self.rows.pop(gone, None)
+        self.touch(key, value)
+        return gone
+
+    def ask(self, key):
+        self.need_key(key)
+        if key not in self.rows:
+            return None
+        self.past.append(dict(self.rows))
+        self.touch(key, self.rows[key][0])
+        return self.rows[key][0]
+
+    def look(self, key):
+        self.need_key(key)
+        return self.rows[key][0] if key in self.rows else None
+
+    def back(self):
+        if not self.past:
+            raise Refusal("NoDeed")
+        self.rows = self.past.pop()
+
+    def __len__(self):
+        return len(self.rows)

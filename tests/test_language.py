@@ -117,6 +117,43 @@ class Language(unittest.TestCase):
                 if isinstance(node, ast.Call) and isinstance(node.func, ast.Attribute):
                     self.assertIn(node.func.attr, METHODS | own, name)
 
+    def test_no_name_is_a_method_in_one_class_and_an_attribute_in_another(self):
+        methods, given, read = set(), set(), set()
+        for name, text, tree in self.each():
+            for kind in [node for node in ast.walk(tree) if isinstance(node, ast.ClassDef)]:
+                self.assertIn(kind, tree.body)
+                self.assertEqual(kind.decorator_list, [])
+                inside = [node for node in kind.body if isinstance(node, ast.FunctionDef)]
+                self.assertEqual(len(inside), len({node.name for node in inside}))
+                methods |= {node.name for node in inside}
+            called = {node.func for node in ast.walk(tree) if isinstance(node, ast.Call)}
+            for node in ast.walk(tree):
+                if isinstance(node, ast.Attribute) and isinstance(node.ctx, ast.Store):
+                    given.add(node.attr)
+                elif isinstance(node, ast.Attribute) and node not in called:
+                    read.add(node.attr)
+        self.assertEqual(methods & given, set())
+        self.assertLessEqual(read, given)
+        self.assertEqual(given & METHODS, set())
+
+    def test_what_double_underscore_methods_tell(self):
+        for name, text, tree in self.each():
+            for kind in [node for node in tree.body if isinstance(node, ast.ClassDef)]:
+                for node in kind.body:
+                    if isinstance(node, ast.FunctionDef) and node.name in ("__len__", "__eq__"):
+                        self.assertEqual([type(row) for row in node.body], [ast.Return], kind.name)
+                        if node.name == "__len__":
+                            self.assertEqual(getattr(node.body[0].value.func, "id", None), "len")
+                    elif isinstance(node, ast.FunctionDef) and node.name == "__init__":
+                        self.assertFalse([row for row in ast.walk(node) if isinstance(row, ast.Return)])
+
+    def test_refusals_alone_are_caught(self):
+        for name, text, tree in self.each():
+            for node in ast.walk(tree):
+                if isinstance(node, ast.ExceptHandler):
+                    kinds = node.type.elts if isinstance(node.type, ast.Tuple) else [node.type]
+                    self.assertFalse({kind.id for kind in kinds} & set(dir(builtins)), name)
+
     def test_sets_stand_where_they_are_only_looked_at(self):
         for name, text, tree in self.each():
             parents = {child: node for node in ast.walk(tree) for child in ast.iter_child_nodes(node)}

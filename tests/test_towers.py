@@ -9,7 +9,7 @@ from everlater.judging import reach
 from everlater.leading import ceiling
 from everlater.lots import in_order, is_later, is_row
 from everlater.towers import is_mark, is_row_in, is_tower, later_in, many_in, order_in, reach_in
-from tests.plain import (RING, RING_TURNED, all_rows_in, apart, beside, line, nested, no_pairs, plain_is_row_in,
+from tests.plain import (RING, RING_TURNED, all_rows_in, apart, line, nested, no_pairs, plain_is_row_in,
                          plain_later_in, plain_marks, plain_reach_in, some_lots, squares, things, within)
 
 TAILED = apart(RING, line(2))
