@@ -1,10 +1,9 @@
 """Boards: slots that hold marks of a tower, and tell by these alone in which order they were written."""
 
 from everlater.errors import NotHeld
-from everlater.holding import (MOST_SLOTS, check_many, check_slots, check_tower, groups, last_deed, let_go,
-                               lots_that_reach, mark_behind, put_into, take_over)
+from everlater.holding import check_slots, groups, last_deed, let_go, lots_for, mark_behind, put_into, take_over
 from everlater.towergiving import is_kept_on
-from everlater.towers import is_mark, order_in
+from everlater.towers import has_marks_or_none, order_in
 
 
 def marks_of(held):
@@ -14,9 +13,7 @@ def marks_of(held):
 
 def can_be_held(tower, lots, many, thing):
     """Tell whether the thing, whatever it is, can be held by a board of so many slots, alike marks perhaps."""
-    if not isinstance(thing, tuple) or len(thing) != many:
-        return False
-    if not all([one is None or is_mark(tower, one) for one in thing]):
+    if not has_marks_or_none(tower, many, thing):
         return False
     row = order_in(tower, marks_of(thing))
     return row is not None and is_kept_on(lots, 0, row)
@@ -26,9 +23,7 @@ class Board:
     """Slots that hold marks; each mark that is written is later than all that the other slots hold."""
 
     def __init__(self, tower, many, *, held=None):
-        check_tower(tower)
-        check_many(many, 1, MOST_SLOTS)
-        lots = lots_that_reach(tower, many)
+        lots = lots_for(tower, many)
         if held is not None and not can_be_held(tower, lots, many, held):
             raise NotHeld(held)
         self.tower = tower

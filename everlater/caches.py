@@ -1,8 +1,7 @@
 """A cache that lets the row go that was touched longest ago, and has nothing but marks to go by."""
 
 from everlater.errors import NoKey
-from everlater.holding import (MOST_SLOTS, check_many, check_tower, check_value, last_deed, lots_that_reach,
-                               mark_behind)
+from everlater.holding import check_value, last_deed, lots_for, mark_behind
 from everlater.towers import order_in
 
 LETTERS = "abcdefghijklmnopqrstuvwxyz"
@@ -21,9 +20,7 @@ class Cache:
     """At most so many rows, each of a key, a value and the mark of its last touch."""
 
     def __init__(self, tower, many):
-        check_tower(tower)
-        check_many(many, 1, MOST_SLOTS)
-        self.lots = lots_that_reach(tower, many)
+        self.lots = lots_for(tower, many)
         self.tower = tower
         self.many = many
         # Of each key (value, mark).

@@ -29,6 +29,13 @@ def lots_that_reach(tower, many):
     return lots
 
 
+def lots_for(tower, many):
+    """Tell the tower's judged lots, for so many slots, rows or places; refused what is wrong about both."""
+    check_tower(tower)
+    check_many(many, 1, MOST_SLOTS)
+    return lots_that_reach(tower, many)
+
+
 def check_slots(held, slots):
     """Refuse the first of the slots that is none of those that hold this."""
     for slot in slots:

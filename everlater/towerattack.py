@@ -6,7 +6,7 @@ of as many marks as the reach go, and gone has the round of each.
 
 from everlater.errors import NotHeld
 from everlater.judging import hope_by, judged
-from everlater.towers import blocks, is_mark, order_in
+from everlater.towers import blocks, has_marks_or_none, order_in
 
 
 def broken_lot(lot):
@@ -37,9 +37,7 @@ def lasts_in(tower):
 
 def is_held_in(tower, many, thing):
     """Tell whether the thing, whatever it is, can be held by so many slots, unlike marks in all of them."""
-    if not isinstance(thing, tuple) or len(thing) != many:
-        return False
-    if not all([one is None or is_mark(tower, one) for one in thing]):
+    if not has_marks_or_none(tower, many, thing):
         return False
     marks = [one for one in thing if one is not None]
     row = order_in(tower, marks)

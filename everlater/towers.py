@@ -20,6 +20,13 @@ def is_mark(tower, thing):
     return all([is_below(lot[0], one) for lot, one in zip(tower, thing)])
 
 
+def has_marks_or_none(tower, many, thing):
+    """Tell whether the thing, whatever it is, is a tuple of so many marks of the tower or Nones."""
+    if not isinstance(thing, tuple) or len(thing) != many:
+        return False
+    return all([one is None or is_mark(tower, one) for one in thing])
+
+
 def later_in(tower, x, y):
     """Tell whether the mark x is later than the mark y."""
     for lot, one, other in zip(tower, x, y):

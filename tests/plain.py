@@ -5,6 +5,7 @@ import functools
 import itertools
 import math
 import random
+import re
 import unittest
 
 ENDLESS = math.inf
@@ -650,3 +651,239 @@ class PlainCache:
 
     def __len__(self):
         return len(self.rows)
+
+
+class PlainCopies(PlainSlots):
+    """Each place holds None or (when it was written, value, mark)."""
+
+    def write(self, place, value):
+        need_slots(len(self.slots), place)
+        if type(value) is not int:
+            raise Refusal("NoValue", value)
+        others = {one[0]: one[2] for at, one in enumerate(self.slots) if at != place and one is not None}
+        mark = plain_give_in(self.tower, tuple(others[when] for when in sorted(others)))
+        self.set_slot(place, (self.clock, value, mark))
+        self.clock += 1
+        return mark
+
+    def spread(self, place, other):
+        need_slots(len(self.slots), place, other)
+        self.need_full(other)
+        changed = self.slots[place] is None or self.slots[place][0] < self.slots[other][0]
+        self.set_slot(place, self.slots[other] if changed else self.slots[place])
+        return changed
+
+    def lose(self, place):
+        self.drop(place)
+
+    def whens(self):
+        return {one[0] for one in self.slots if one is not None}
+
+    def read(self):
+        return max([one for one in self.slots if one is not None], default=(None, None))[1]
+
+    def at(self, place):
+        need_slots(len(self.slots), place)
+        return None if self.slots[place] is None else self.slots[place][1:]
+
+    def stale(self):
+        return tuple(place for place, one in enumerate(self.slots) if one is not None and one[0] < max(self.whens()))
+
+    def agree(self):
+        return len(self.whens()) < 2
+
+
+# Point 21.
+
+def plain_show_lot(lot):
+    text = f"lot {lot[0]}"
+    for mark in range(lot[0]):
+        lower = sorted(y for x, y in lot[1] if x == mark)
+        if lower:
+            text += f"\n{mark} over"
+            for y in lower:
+                text += f" {y}"
+    return text
+
+
+def plain_show_tower(tower):
+    text = plain_show_lot(tower[0])
+    for lot in tower[1:]:
+        text += "\nin\n" + plain_show_lot(lot)
+    return text
+
+
+def plain_show_mark(mark):
+    return "-" if mark is None else str(mark)[1:-1].rstrip(",").replace(", ", ".")
+
+
+def plain_show_held(held):
+    return " ".join(map(plain_show_mark, held))
+
+
+def plain_show_board(tower, held):
+    return f"board {len(held)}\n{plain_show_held(held)}\n{plain_show_tower(tower)}"
+
+
+# Point 22: a text is right where what is loosely read of it, shown, is just that text; so is each beginning of one.
+
+NUMBER = r"(?:0|[1-9][0-9]*)"
+MARK_WORD = rf"(?:-|{NUMBER}(?:\.{NUMBER})*)"
+
+
+def plain_lot_of(rows):
+    """The lot of these rows, None where they are no lot's text."""
+    if not rows or not re.fullmatch(f"lot {NUMBER}", rows[0]):
+        return None
+    if not all(re.fullmatch(f"{NUMBER} over( {NUMBER})+", row) for row in rows[1:]):
+        return None
+    pairs = [(int(row.split()[0]), int(y)) for row in rows[1:] for y in row.split()[2:]]
+    many = int(rows[0].split()[1])
+    if many > 24 or any(x >= many or y >= many or x == y or (y, x) in pairs for x, y in pairs):
+        return None
+    lot = many, tuple(sorted(set(pairs)))
+    return lot if plain_show_lot(lot) == "\n".join(rows) else None
+
+
+def plain_lots_of(rows):
+    """The lots of a tower's rows, None in the stead of each that is none, of each without marks too."""
+    lots = [[]]
+    for row in rows:
+        if row == "in":
+            lots.append([])
+        else:
+            lots[-1].append(row)
+    found = [plain_lot_of(one) for one in lots]
+    return [lot if lot is not None and lot[0] else None for lot in found]
+
+
+def lot_may_go_on(rows):
+    return plain_lot_of(rows) is not None
+
+
+def tower_may_go_on(rows):
+    lots = plain_lots_of(rows)
+    return len(lots) <= 40 and None not in lots[:-1] and (lots[-1] is not None or not rows or rows[-1] == "in" != rows[0])
+
+
+def board_may_go_on(rows):
+    if not re.fullmatch(f"board {NUMBER}", rows[0]) or not 1 <= int(rows[0].split()[1]) <= 60:
+        return False
+    if len(rows) > 1 and not re.fullmatch(f"{MARK_WORD}( {MARK_WORD})*", rows[1]):
+        return False
+    if len(rows) > 1 and len(rows[1].split()) != int(rows[0].split()[1]):
+        return False
+    return tower_may_go_on(rows[2:])
+
+
+def plain_is_held(tower, held):
+    """Whether a board of this tower may hold it: marks or Nones, the unlike marks a kept row."""
+    marks = {mark for mark in held if mark is not None}
+    if any(len(mark) != len(tower) or any(one >= lot[0] for one, lot in zip(mark, tower)) for mark in marks):
+        return False
+    row = tuple(sorted(marks, key=lambda mark: sum(plain_later_in(tower, mark, other) for other in marks)))
+    return plain_is_row_in(tower, row) and plain_is_kept_in(tower, row)
+
+
+def board_parts(rows):
+    """The tower of a board's rows, and what is held."""
+    held = tuple(None if word == "-" else tuple(map(int, word.split("."))) for word in rows[1].split(" "))
+    return tuple(plain_lots_of(rows[2:])), held
+
+
+def plain_read(kind, text):
+    """What outcome tells of reading it: a lot, a tower, a board as (tower, held)."""
+    if type(text) is not str:
+        return "NoText", (0,)
+    rows = text.split("\n")
+    may_go_on = {"lot": lot_may_go_on, "tower": tower_may_go_on, "board": board_may_go_on}[kind]
+    for at in range(len(rows)):
+        if not may_go_on(rows[:at + 1]):
+            return "NoText", (at,)
+    if kind == "lot":
+        return "told", plain_lot_of(rows)
+    if len(rows) < 3 and kind == "board" or rows[-1] == "in":
+        return "NoText", (len(rows),)
+    if kind == "tower":
+        return "told", tuple(plain_lots_of(rows))
+    tower, held = board_parts(rows)
+    if len(held) > plain_reach_in(tower) or not plain_is_held(tower, held):
+        return "NoText", (len(rows),)
+    return "told", (tower, held)
+
+
+SIGNS = " 0123456789.-:,/\nabdeilnortvx~_+"
+
+
+def spoilt_texts(text, chance, others=4):
+    """The text spoilt at each place: by signs, by rows, by blanks, by a 0 ahead; some of these may be right again."""
+    for at, sign in enumerate(text):
+        yield text[:at] + text[at + 1:]
+        yield text[:at] + sign + text[at:]
+        yield text[:at] + text[at + 1:at + 2] + sign + text[at + 2:]
+        for other in chance.sample(SIGNS, others):
+            yield text[:at] + other + text[at + 1:]
+            yield text[:at] + other + text[at:]
+    rows = text.split("\n")
+    for at, row in enumerate(rows):
+        changed = [[], [row, row], ["in", row], [row, "in"], ["lot 1", row], ["lot 0"], ["lot 24"], ["lot 25"], ["board 1"],
+                   [row + " "], [" " + row], [row.replace(" ", "  ", 1)], [row.upper()], [""], [row, ""], ["", row], ["-"],
+                   [re.sub(r"\b(\d+)$", r"0\1", row)], [re.sub(r"^(\d)", r"0\1", row)], [row.replace("over", "in")]]
+        for some in changed:
+            yield "\n".join(rows[:at] + some + rows[at + 1:])
+        for other in range(at):
+            order = list(rows)
+            order[at], order[other] = order[other], order[at]
+            yield "\n".join(order)
+        yield "\n".join(rows[:at])
+    for more in ("\n", "\nin", "\nin\nlot 1", "\n0 over 1", "\n1 over 0", "\nlot 1", " ", "\n ", "\n-", "\nin\n", "\nin\nin"):
+        yield text + more
+        yield more + text
+    yield ""
+    yield " "
+    yield "\n"
+
+
+# Point 23.
+
+SLOT_WORD = r"(0|[1-9][0-9]{0,2})"
+LINES = {"write": 1, "take": 2, "drop": 1, "back": 0, "marks": 0, "order": 0, "newest": 0, "oldest": 0, "next": 1, "full": 0,
+         "reach": 0, "lasts": 0, "many": 0, "lots": 0, "later": 2, "text": 0}
+
+
+def plain_later(board, slot, other):
+    need_slots(len(board.slots), slot, other)
+    board.need_full(slot)
+    board.need_full(other)
+    return "yes" if board.slots[slot][0] > board.slots[other][0] else "no"
+
+
+def plain_or_none(thing):
+    return "-" if thing is None else str(thing)
+
+
+def plain_say(board, line):
+    """What a desk answers whose board is as this plain one."""
+    found = re.fullmatch(rf"([a-z]+)(?: {SLOT_WORD})?(?: {SLOT_WORD})?", line) if type(line) is str else None
+    if not found or LINES.get(found[1]) != len([one for one in found.groups()[1:] if one is not None]):
+        raise Refusal("NoLine", line)
+    word, slots = found[1], [int(one) for one in found.groups()[1:] if one is not None]
+    if word in ("take", "drop", "back"):
+        getattr(board, word)(*slots)
+        return "done"
+    answers = {
+        "write": lambda: plain_show_mark(board.write(*slots)),
+        "marks": lambda: plain_show_held(board.marks()),
+        "order": lambda: " ".join(",".join(map(str, group)) for group in board.order()) or "-",
+        "newest": lambda: plain_or_none(board.newest()),
+        "oldest": lambda: plain_or_none(board.oldest()),
+        "next": lambda: plain_show_mark(board.next_mark(*slots)),
+        "full": lambda: str(len(board)),
+        "reach": lambda: str(plain_reach_in(board.tower)),
+        "lasts": lambda: str(plain_lasts_in(board.tower)),
+        "many": lambda: str(math.prod(lot[0] for lot in board.tower)),
+        "lots": lambda: " ".join(str(plain_reach(lot)) for lot in board.tower),
+        "later": lambda: plain_later(board, *slots),
+        "text": lambda: plain_show_board(board.tower, board.marks()).replace("\n", "/"),
+    }
+    return answers[word]()

@@ -20,6 +20,9 @@ FUNCTIONS = {
                "later_in": ["tower", "x", "y"], "order_in": ["tower", "marks"], "many_in": ["tower"], "reach_in": ["tower"]},
     "towergiving": {"is_kept_in": ["tower", "thing"], "give_in": ["tower", "row"]},
     "towerattack": {"lasts_in": ["tower"], "attack_in": ["tower", "held"]},
+    "showing": {"show_lot": ["lot"], "show_tower": ["tower"], "show_row": ["row"], "show_held": ["held"],
+                "show_letter": ["letter"], "show_board": ["board"]},
+    "reading": {"read_lot": ["text"], "read_tower": ["text"], "read_board": ["text"], "read_row": ["tower", "text"]},
 }
 # What is behind a * is handed in by its name alone, what has = may be left out.
 CLASSES = {
@@ -34,6 +37,10 @@ CLASSES = {
     "caches": {"Cache": {
         "__init__": ["tower", "many"], "put": ["key", "value"], "ask": ["key"], "look": ["key"], "by_touch": [],
         "marks": [], "back": [], "__len__": []}},
+    "copies": {"Copies": {
+        "__init__": ["tower", "many"], "write": ["place", "value"], "spread": ["place", "other"], "lose": ["place"],
+        "back": [], "read": [], "at": ["place"], "stale": [], "agree": []}},
+    "desk": {"Desk": {"__init__": ["text"], "say": ["line"]}},
 }
 
 
